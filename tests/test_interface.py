@@ -1,0 +1,66 @@
+"""The interface: its names, their arguments, and the files and classes in which they are defined."""
+
+import importlib
+import inspect
+import unittest
+
+FUNCTIONS = {
+    "arith": ("near(n)", "mul(x, y)", "mix(d, f, k)", "hold(v, low, high)", "straight(c, a)", "mean(total, count)"),
+    "pixels": ("is_pixel(thing)", "scale(pixel, k)", "ink(color)", "mixed(d, f, k)", "capped(pixel, a)"),
+    "modes": ("blend(mode, s, d)", "kept(mode, s, d)"),
+    "rects": ("overlap(a, b)", "around(rects)", "around_places(places)", "widened(rect, left, up, right, down)",
+              "holds(rect, x, y)", "cut(block, rect, part)"),
+}
+CLASSES = {
+    ("regions", "Region"): (
+        "of(rects)", "empty()", "everything()", "grown(left, up, right, down)", "moved(dx, dy)", "halved()",
+        "doubled()", "meets(rect)", "box()", "rects()", "places()",
+    ),
+    ("coverage", "Coverage"): (
+        "of_rect(rect, k)", "of_alpha(block, x0, y0)", "at(x, y)", "box()", "turned(rect)", "grown(radius, rect)",
+        "shrunk(radius, rect)", "feathered(radius, rect)", "hardened(least)",
+    ),
+}
+BUILT = {("coverage", "Coverage"): "(spots)"}
+OPERATORS = {
+    ("regions", "Region"): ("__or__", "__and__", "__sub__", "__eq__", "__contains__", "__bool__"),
+    ("coverage", "Coverage"): ("__or__", "__and__", "__sub__", "__eq__", "__bool__"),
+}
+
+
+def module(name):
+    return importlib.import_module("easelwork." + name)
+
+
+def written(name, thing):
+    return name + str(inspect.signature(thing))
+
+
+class InterfaceTest(unittest.TestCase):
+    def test_functions(self):
+        for name, calls in FUNCTIONS.items():
+            for call in calls:
+                word = call.partition("(")[0]
+                thing = getattr(module(name), word)
+                self.assertEqual(written(word, thing), call)
+                self.assertEqual(thing.__module__, "easelwork." + name)
+
+    def test_methods_stand_in_the_class_itself(self):
+        for (name, word), calls in CLASSES.items():
+            kind = getattr(module(name), word)
+            self.assertEqual(kind.__module__, "easelwork." + name)
+            for call in calls:
+                method = call.partition("(")[0]
+                self.assertIn(method, vars(kind))
+                held = written(method, getattr(kind, method)).replace("(self, ", "(").replace("(self)", "()")
+                self.assertEqual(held, call)
+            for method in OPERATORS.get((name, word), ()):
+                self.assertIn(method, vars(kind))
+
+    def test_how_objects_are_made(self):
+        for (name, word), arguments in BUILT.items():
+            self.assertEqual(str(inspect.signature(getattr(module(name), word))), arguments)
+
+
+if __name__ == "__main__":
+    unittest.main()
