@@ -2,7 +2,7 @@
 
 import unittest
 
-from easelwork.errors import EndlessRegion
+from easelwork.errors import BadText, EndlessRegion
 
 
 class StageOneTest(unittest.TestCase):
@@ -40,6 +40,47 @@ class StageOneTest(unittest.TestCase):
                          (((1, 0, 9), (0, 1, 255)), ((0, 0, 9), (1, 0, 9), (2, 0, 9))))
         self.assertEqual(Coverage([(1, 0, 9), (0, 1, 255)]).feathered(1, (0, 0, 2, 1)).spots,
                          ((0, 0, 3), (1, 0, 6)))
+
+
+class StageTwoTest(unittest.TestCase):
+    def test_notation(self):
+        from easelwork.notation import read_value, write_value
+        self.assertEqual(write_value((1, "a", (), (True,), None)), '(1,"a",(),(true,),none)')
+        with self.assertRaises(BadText) as caught:
+            read_value("(1,2,)")
+        self.assertEqual(caught.exception.position, 5)
+
+    def test_disk(self):
+        from easelwork.disk import Disk
+        disk = Disk(4, 40)
+        disk.write(0, "a" * 40)
+        disk.sync()
+        disk.write(1, "b" * 40)
+        disk.write(2, "c" * 40)
+        found = disk.cut(4, (("head", 3), ("lost",)))
+        self.assertEqual((found.read(0)[:5], found.read(1)[:5], found.read(2)[:5]), ("aaaaa", "bbb~~", "~~~~~"))
+
+    def test_tones(self):
+        from easelwork.tones import Curve
+        curve = Curve(((0, 0), (100, 50), (255, 255)))
+        self.assertEqual((curve(1), curve(100), curve(200)), (1, 50, 182))
+
+    def test_kernels(self):
+        from easelwork.kernels import convolved
+        block = (((10, 10, 10, 10), (20, 20, 20, 20), (40, 40, 40, 40)),)
+        self.assertEqual(convolved(block, ((1, 2, -1),), 2), (((5, 5, 5, 5),),))
+
+    def test_matrices(self):
+        from easelwork.matrices import Matrix
+        self.assertEqual((Matrix(2, 0, 0, 0, 2, 0, 1) * Matrix(1, 0, 3, 0, 1, 0, 1)).parts(), (2, 0, 6, 0, 2, 0, 1))
+        self.assertEqual(Matrix(2, 0, 6, 0, 2, 0, 1).inverse().parts(), (1, 0, -6, 0, 1, 0, 2))
+
+    def test_taps(self):
+        from easelwork.regions import Region
+        from easelwork.taps import back, taps
+        self.assertEqual(taps((1, 0, 0, 0, 1, 0, 2), "smooth", 0, 0),
+                         ((-1, -1, 4096), (0, -1, 12288), (-1, 0, 12288), (0, 0, 36864)))
+        self.assertEqual(back((1, 0, 0, 0, 1, 0, 2), "smooth", Region.of([(0, 0, 1, 1)])).rects(), ((-1, -1, 3, 3),))
 
 
 if __name__ == "__main__":

@@ -10,6 +10,13 @@ FUNCTIONS = {
     "modes": ("blend(mode, s, d)", "kept(mode, s, d)"),
     "rects": ("overlap(a, b)", "around(rects)", "around_places(places)", "widened(rect, left, up, right, down)",
               "holds(rect, x, y)", "cut(block, rect, part)"),
+    "notation": ("write_value(value)", "read_value(text)", "read_prefix(text, at)"),
+    "sealed": ("seal(old, body)", "unsealed(block)"),
+    "tones": ("adjusted(pixel, red, green, blue)",),
+    "kernels": ("convolved(block, weights, divisor)", "blurred(block, radius, times)",
+                "ranked(block, across, down, which)"),
+    "taps": ("taps(matrix, manner, x, y)", "tapped(pixels_and_weights)", "look(matrix, manner, region)",
+             "back(matrix, manner, region)"),
 }
 CLASSES = {
     ("regions", "Region"): (
@@ -20,11 +27,23 @@ CLASSES = {
         "of_rect(rect, k)", "of_alpha(block, x0, y0)", "at(x, y)", "box()", "turned(rect)", "grown(radius, rect)",
         "shrunk(radius, rect)", "feathered(radius, rect)", "hardened(least)",
     ),
+    ("disk", "Disk"): ("read(at)", "write(at, block)", "sync()", "blocks()", "twin()", "cut(done, fates)"),
+    ("tones", "Curve"): (
+        "__call__(v)", "identity()", "inverted()", "levels(black, white, low, high)", "threshold(n)",
+    ),
+    ("matrices", "Matrix"): ("parts()", "point(x, y)", "inverse()"),
 }
-BUILT = {("coverage", "Coverage"): "(spots)"}
+BUILT = {
+    ("coverage", "Coverage"): "(spots)",
+    ("disk", "Disk"): "(count, width)",
+    ("tones", "Curve"): "(points)",
+    ("matrices", "Matrix"): "(a, b, c, d, e, f, n)",
+}
 OPERATORS = {
     ("regions", "Region"): ("__or__", "__and__", "__sub__", "__eq__", "__contains__", "__bool__"),
     ("coverage", "Coverage"): ("__or__", "__and__", "__sub__", "__eq__", "__bool__"),
+    ("tones", "Curve"): ("__eq__",),
+    ("matrices", "Matrix"): ("__mul__", "__eq__"),
 }
 
 
