@@ -1,11 +1,10 @@
 """The written form of values: integers, strings, True, False, None and tuples of values."""
 
 from easelwork.errors import BadText
+from easelwork.signs import may_stand
 
 MOST_DIGITS = 30
 MOST_DEPTH = 40
-# The percent sign stands in no string of the program, so it is known by its number.
-PERCENT = 37
 WORDS = (("true", True), ("false", False), ("none", None))
 
 
@@ -82,16 +81,11 @@ def _string_at(text, at):
             end += 1
             if text[end:end + 1] not in ('"', "\\"):
                 raise BadText(end)
-        elif not _may_stand(text[end:end + 1]):
+        elif not may_stand(text[end:end + 1]):
             raise BadText(end)
         signs.append(text[end])
         end += 1
     return "".join(signs), end + 1
-
-
-def _may_stand(sign):
-    """True if a string of a value may hold the sign, a single one, or nothing at the end of the text."""
-    return " " <= sign <= "}" and ord(sign) != PERCENT
 
 
 def _integer_at(text, at):

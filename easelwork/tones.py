@@ -8,7 +8,7 @@ class Curve:
     """A curve through points; between two neighbours it is the straight line, rounded."""
 
     def __init__(self, points):
-        if not _are_points(points):
+        if not are_points(points):
             raise BadValue("points")
         self.points = tuple(points)
         self._heights = _heights(self.points)
@@ -56,7 +56,7 @@ def adjusted(pixel, red, green, blue):
     return (mul(red(straight(r, a)), a), mul(green(straight(g, a)), a), mul(blue(straight(b, a)), a), a)
 
 
-def _are_points(points):
+def are_points(points):
     """True if a curve can be made of the points."""
     if not 2 <= len(points) <= 16:
         return False

@@ -2,6 +2,8 @@
 
 from random import Random
 
+from easelwork.errors import EaselError
+
 EDGE_PARTS = (0, 1, 2, 63, 64, 126, 127, 128, 191, 254, 255)
 BIG = 10 ** 30
 
@@ -53,3 +55,12 @@ def some_spots(chance, rect, share):
                 out.append((x, y, chance.choice((0, 1, 127, 128, 254, 255, chance.randint(0, 255)))))
     chance.shuffle(out)
     return out
+
+
+def refusal(call, *arguments, **keywords):
+    """What a call is refused with: the name of the error class and the error's attribute, if it has one."""
+    try:
+        call(*arguments, **keywords)
+    except EaselError as error:
+        return (type(error).__name__,) + tuple(vars(error).values())
+    return None

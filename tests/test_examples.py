@@ -2,7 +2,7 @@
 
 import unittest
 
-from easelwork.errors import BadText, EndlessRegion
+from easelwork.errors import BadText, BadValue, EndlessRegion
 
 
 class StageOneTest(unittest.TestCase):
@@ -81,6 +81,98 @@ class StageTwoTest(unittest.TestCase):
         self.assertEqual(taps((1, 0, 0, 0, 1, 0, 2), "smooth", 0, 0),
                          ((-1, -1, 4096), (0, -1, 12288), (-1, 0, 12288), (0, 0, 36864)))
         self.assertEqual(back((1, 0, 0, 0, 1, 0, 2), "smooth", Region.of([(0, 0, 1, 1)])).rects(), ((-1, -1, 3, 3),))
+
+
+class StageThreeTest(unittest.TestCase):
+    def test_outlines(self):
+        from easelwork.outlines import covered
+        self.assertEqual(covered((((0, 0), (1024, 0), (0, 1024)),), 1024, "odd", 0, 0), 6)
+
+    def test_texts(self):
+        from easelwork.texts import glyph_places, lines
+        self.assertEqual(lines((8, (("a", 16, ()), ("b", 8, ()))), " ab  b a", 16, 32), (("ab",), ("b", "a")))
+        self.assertEqual(glyph_places((8, (("a", 16, ()), ("b", 8, ()))), "ab b a", 16, 32, 20, "right"),
+                         (("a", 128, 0), ("b", 384, 0), ("b", 0, 320), ("a", 256, 320)))
+
+    def test_ramps(self):
+        from easelwork.ramps import ramp_pixel
+        self.assertEqual(ramp_pixel("line", (0, 0), (4, 0), (0, 0, 0, 255), (255, 255, 255, 255), 1, 5),
+                         (63, 63, 63, 255))
+
+    def test_layers(self):
+        from easelwork.layers import layer
+        self.assertEqual(layer(3, "blur", radius=2), (3, "blur", ("over", 255, None, True, ""), (2, 1), ()))
+
+    def test_documents(self):
+        from easelwork.documents import Document
+        from easelwork.layers import layer
+        with self.assertRaises(BadValue) as caught:
+            Document(2, 1, layer(0, "group", layer(1, "solid", opacity=256)))
+        self.assertEqual(caught.exception.field, "opacity")
+
+    def test_levels(self):
+        from easelwork.levels import half
+        self.assertEqual(half((((0, 0, 0, 1), (0, 0, 0, 2), (0, 0, 0, 4)),)), (((0, 0, 0, 2), (0, 0, 0, 4)),))
+
+    def test_whole(self):
+        from easelwork.documents import Document
+        from easelwork.layers import layer
+        from easelwork.plain import whole
+        below = layer(1, "solid", color=(255, 0, 0, 255))
+        above = layer(2, "paint", spots=((0, 0, (0, 0, 100, 100)),))
+        document = Document(2, 1, layer(0, "group", below, above))
+        self.assertEqual((whole(document, 0), whole(document, 1)),
+                         ((((155, 0, 100, 255), (255, 0, 0, 255)),), (((205, 0, 50, 255),),)))
+
+    def test_plane_at(self):
+        from easelwork.documents import Document
+        from easelwork.layers import layer
+        from easelwork.plain import plane_at
+        base = layer(1, "paint", spots=((0, 0, (0, 0, 0, 128)),))
+        light = layer(2, "solid", color=(255, 255, 255, 255))
+        document = Document(2, 1, layer(0, "group", layer(3, "stack", base, light)))
+        self.assertEqual((plane_at(document, 3, 0, 0), plane_at(document, 3, 1, 0)),
+                         ((128, 128, 128, 128), (0, 0, 0, 0)))
+
+    def test_needs(self):
+        from easelwork.layers import layer
+        from easelwork.needs import needs, reach
+        from easelwork.regions import Region
+        kernel = layer(1, "kernel", weights=((1, 1),), origin=(0, 0))
+        region = Region.of([(5, 0, 6, 1)])
+        self.assertEqual((needs(kernel, region).rects(), reach(kernel, region).rects()),
+                         (((5, 0, 7, 1),), ((4, 0, 6, 1),)))
+
+
+class StageFourTest(unittest.TestCase):
+    def test_pairs(self):
+        from easelwork.differ import pairs
+        from easelwork.layers import layer
+        one = layer(1, "paint")
+        two = layer(2, "paint")
+        three = layer(3, "paint")
+        self.assertEqual((pairs((one, two, three), (three, one, two)), pairs((one, two), (two, one))),
+                         (((0, 1), (1, 2)), ((1, 0),)))
+
+    def test_differ(self):
+        from easelwork.differ import differ
+        from easelwork.layers import layer
+        dot = layer(1, "paint", spots=((4, 4, (9, 9, 9, 9)),))
+        old = layer(0, "group", layer(1, "paint"), layer(2, "blur"))
+        new = layer(0, "group", dot, layer(2, "blur"))
+        self.assertEqual(differ(old, new).rects(), ((3, 3, 6, 6),))
+
+    def test_deeds(self):
+        from easelwork.deeds import do
+        from easelwork.documents import Document
+        from easelwork.layers import layer
+        document = Document(2, 1, layer(0, "group", layer(1, "paint", spots=((0, 0, (9, 0, 0, 9)),))))
+        later, inverse = do(document, ("put", 1, ((0, 0, (9, 0, 0, 9)), (1, 0, (0, 7, 0, 8)))))
+        self.assertEqual(inverse, ("put", 1, ((1, 0, (0, 0, 0, 0)),)))
+
+    def test_strokes(self):
+        from easelwork.strokes import dab_places
+        self.assertEqual(dab_places(((0, 0), (3, 1), (3, -2)), 2), ((0, 0), (2, 1), (3, 0), (3, -2)))
 
 
 if __name__ == "__main__":

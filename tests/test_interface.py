@@ -17,6 +17,26 @@ FUNCTIONS = {
                 "ranked(block, across, down, which)"),
     "taps": ("taps(matrix, manner, x, y)", "tapped(pixels_and_weights)", "look(matrix, manner, region)",
              "back(matrix, manner, region)"),
+    "outlines": ("chords(outline)", "winding(polygons, x, y)", "covered(polygons, unit, rule, x, y)",
+                 "bounds_of(polygons, unit)", "sample_alpha(n)"),
+    "texts": ("lines(font, words, scale, room)", "glyph_places(font, words, scale, room, gap, side)",
+              "text_polygons(font, scale, place, words, room, gap, side)"),
+    "ramps": ("ramp_pixel(manner, start, finish, first, second, x, y)",),
+    "layers": ("layer(number, kind, *children, **fields)", "field(tree, name)", "with_field(tree, name, value)",
+               "walk(tree)", "layer_of(tree, number)"),
+    "levels": ("half(block)", "level_size(wide, high, level)", "last_level(wide, high)", "level_of(block, level)"),
+    "plain": ("plane_at(document, number, x, y)", "whole(document, level)"),
+    "needs": ("needs(tree, region)", "reach(tree, region)"),
+    "boxes": ("box(tree)", "span(tree)"),
+    "pieces": ("piece(tree, rect)",),
+    "differ": ("pairs(olds, news)", "differ(old, new)", "between(olds, news, region)", "picture_differ(old, new)"),
+    "deeds": ("do(document, deed)",),
+    "strokes": ("brush(manner, side)", "dab_places(points, gap)", "stroke_cover(points, manner, side, gap)",
+                "selected(document, x, y)",
+                "painted_deed(document, number, cover, color, *, flow=255, mode='over')"),
+    "fills": ("flood(block, x, y, tolerance)", "alike(block, x, y, tolerance)"),
+    "edits": ("fresh(document)", "baked(document, number)", "wrapped(document, number)",
+              "unwrapped(document, number)", "turned_deed(document, number, seven)"),
 }
 CLASSES = {
     ("regions", "Region"): (
@@ -32,18 +52,21 @@ CLASSES = {
         "__call__(v)", "identity()", "inverted()", "levels(black, white, low, high)", "threshold(n)",
     ),
     ("matrices", "Matrix"): ("parts()", "point(x, y)", "inverse()"),
+    ("documents", "Document"): ("layer(number)", "numbers()", "holder(number)", "pack()"),
 }
 BUILT = {
     ("coverage", "Coverage"): "(spots)",
     ("disk", "Disk"): "(count, width)",
     ("tones", "Curve"): "(points)",
     ("matrices", "Matrix"): "(a, b, c, d, e, f, n)",
+    ("documents", "Document"): "(wide, high, root, *, chosen=None)",
 }
 OPERATORS = {
     ("regions", "Region"): ("__or__", "__and__", "__sub__", "__eq__", "__contains__", "__bool__"),
     ("coverage", "Coverage"): ("__or__", "__and__", "__sub__", "__eq__", "__bool__"),
     ("tones", "Curve"): ("__eq__",),
     ("matrices", "Matrix"): ("__mul__", "__eq__"),
+    ("documents", "Document"): ("__eq__",),
 }
 
 

@@ -163,7 +163,7 @@ class SyntaxTest(unittest.TestCase):
             self.assertIsInstance(node, STATEMENTS, (name, node.lineno))
 
     def test_expressions_that_are_left_out(self):
-        barred = (ast.GeneratorExp, ast.Await, ast.YieldFrom, ast.NamedExpr, ast.MatMult, ast.Div)
+        barred = (ast.GeneratorExp, ast.Await, ast.NamedExpr, ast.MatMult, ast.Div)
         for name, node in nodes(barred):
             self.fail((name, ast.dump(node)))
         for name, node in nodes(ast.Constant):
@@ -209,8 +209,6 @@ class SyntaxTest(unittest.TestCase):
                 if isinstance(part, ast.Subscript) and isinstance(part.ctx, ast.Store):
                     if isinstance(part.value, ast.Name):
                         self.assertNotIn(part.value.id, names, (name, node.name))
-                if isinstance(part, ast.AugAssign):
-                    self.assertIsInstance(part.target, (ast.Name, ast.Attribute), (name, node.name))
 
 
 class NameTest(unittest.TestCase):
@@ -254,7 +252,7 @@ class NameTest(unittest.TestCase):
     def test_a_generator_has_its_name_alone(self):
         every = [node.name for _, node in nodes(ast.FunctionDef)]
         for name, node in nodes(ast.FunctionDef):
-            if any(isinstance(part, ast.Yield) for part in ast.walk(node)):
+            if any(isinstance(part, (ast.Yield, ast.YieldFrom)) for part in ast.walk(node)):
                 self.assertEqual(every.count(node.name), 1, (name, node.name))
 
     def test_any_all_and_the_like_take_lists(self):
