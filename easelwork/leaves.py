@@ -12,9 +12,9 @@ def leaf_blocks(tree, rects):
     body = tree[3]
     if kind == "paint":
         pixels = {(x, y): pixel for x, y, pixel in body[0]}
-        return [_drawn(rect, lambda x, y: pixels.get((x, y), CLEAR)) for rect in rects]
+        return [_paint_block(pixels, rect) for rect in rects]
     if kind == "ramp":
-        return [_drawn(rect, lambda x, y: ramp_pixel(*body, x, y)) for rect in rects]
+        return [_ramp_block(body, rect) for rect in rects]
     if kind == "solid":
         return [((ink(body[0]),) * (x1 - x0),) * (y1 - y0) for x0, y0, x1, y1 in rects]
     counts = covered_rows(shape_polygons(tree), shape_unit(tree), _rule(tree), rects)
@@ -40,7 +40,14 @@ def _rule(tree):
     return tree[3][1] if tree[1] == "shape" else "wind"
 
 
-def _drawn(rect, pixel_at):
-    """The block of a rect of pixels that are told one by one."""
+def _paint_block(pixels, rect):
     x0, y0, x1, y1 = rect
-    return tuple([tuple([pixel_at(x, y) for x in range(x0, x1)]) for y in range(y0, y1)])
+    return tuple([tuple([pixels.get((x, y), CLEAR) for x in range(x0, x1)]) for y in range(y0, y1)])
+
+
+def _ramp_block(body, rect):
+    manner, start, finish, first, second = body
+    x0, y0, x1, y1 = rect
+    return tuple([
+        tuple([ramp_pixel(manner, start, finish, first, second, x, y) for x in range(x0, x1)]) for y in range(y0, y1)
+    ])

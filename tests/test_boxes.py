@@ -41,6 +41,14 @@ class BoxTest(unittest.TestCase):
         font = (9, (("a", 9, (TRIANGLE,)),))
         self.assertEqual(box(layer(1, "text", font=font, words="a", color=CLEAR_COLOR)), EMPTY)
 
+    def test_colors_of_alpha_1(self):
+        faint = (9, 9, 9, 1)
+        font = (9, (("a", 9, (TRIANGLE,)),))
+        for tree in (layer(1, "solid", color=faint), layer(1, "ramp", first=faint, second=CLEAR_COLOR),
+                     layer(1, "ramp", first=CLEAR_COLOR, second=faint), layer(1, "shape", outlines=(TRIANGLE,),
+                     color=faint), layer(1, "text", font=font, words="a", color=faint)):
+            self.assertTrue(box(tree))
+
     def test_shapes_and_texts(self):
         self.assertEqual(rects(box(layer(1, "shape", outlines=(TRIANGLE,)))), ((0, 0, 3, 2),))
         self.assertEqual(box(layer(1, "shape")), EMPTY)

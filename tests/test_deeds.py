@@ -201,6 +201,9 @@ class AddTest(DeedCase):
         self.document = Document(1, 1, layer(0, "group", *groups, layer(1, "group")))
         self.refused(("add", 100, 16, layer(900, "solid")), "TooLarge", "children")
         self.refused(("add", 100, 16, layer(1, "solid")), "Taken", 1)
+        fifteen = do(self.document, ("drop", 200))[0]
+        self.assertEqual(len(do(fifteen, ("add", 100, 15, layer(900, "solid")))[0].layer(100)[4]), 16)
+        self.assertEqual(len(do(fifteen, ("shift", 220, 100, 15))[0].layer(100)[4]), 16)
         five = layer(900, "group", *[layer(901 + k, "solid") for k in range(4)])
         self.refused(("add", 1, 0, five), "TooLarge", "layers")
         self.refused(("add", 100, 0, five), "TooLarge", "children")
