@@ -52,5 +52,6 @@ def turned_deed(document, number, seven):
     if len(seven) != 7:
         raise BadValue("matrix")
     move = Matrix(*seven)
-    old = Matrix(*tree[3][0])
+    held = tree[3][0]
+    old = Matrix(*held)
     return ("set", number, "matrix", (old * move.inverse()).parts())

@@ -169,6 +169,22 @@ class SyntaxTest(unittest.TestCase):
         for name, node in nodes(ast.Constant):
             self.assertNotIsInstance(node.value, (float, complex, bytes), (name, node.lineno))
 
+    def test_stars_stand_before_names(self):
+        for name, node in nodes(ast.Call):
+            for part in node.args:
+                if isinstance(part, ast.Starred):
+                    self.assertIsInstance(part.value, ast.Name, (name, node.lineno))
+            self.assertTrue(all(part.arg for part in node.keywords), (name, node.lineno))
+
+    def test_underscores_are_never_read(self):
+        for name, node in nodes(ast.Name):
+            if node.id == "_":
+                self.assertIsInstance(node.ctx, ast.Store, (name, node.lineno))
+
+    def test_functions_from_tables_are_given_names_first(self):
+        for name, node in nodes(ast.Call):
+            self.assertIsInstance(node.func, (ast.Name, ast.Attribute), (name, node.lineno))
+
     def test_decorators_and_double_underscores(self):
         for name, node in nodes(ast.FunctionDef):
             words = [part.id for part in node.decorator_list]
