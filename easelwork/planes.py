@@ -7,7 +7,7 @@ from easelwork.kernels import blurred, ranked
 from easelwork.layers import active_of, is_effect
 from easelwork.leaves import leaf_blocks
 from easelwork.modes import blend
-from easelwork.needs import margins
+from easelwork.needs import all_margins, margins
 from easelwork.pixels import ink, scale
 from easelwork.rects import around, cut, widened
 from easelwork.taps import WHOLE, tapped, taps
@@ -42,11 +42,22 @@ def _placed(tree, rects, giver):
     places = list({(i, j): True for rows in tapped_rows for row in rows for tap in row for i, j, _ in tap})
     across, down = _spread(tree[4])
     looked = areas(places, across, down)
-    pixels = _pixels_of(looked, folded(tree[4], looked, giver))
+    pixels = pixels_of(looked, folded(tree[4], looked, giver))
     return [tuple([tuple([_read(tap, pixels) for tap in row]) for row in rows]) for rows in tapped_rows]
 
 
-def _pixels_of(rects, blocks):
+def margin(tree):
+    """How many columns and rows more than a rect has are made of its children for the plane of the layer on it."""
+    if tree[1] == "placed":
+        return (0, 0)
+    left, up, right, down = all_margins(tree[4])
+    if tree[1] == "styled":
+        x0, y0, x1, y1 = _styled_rect(tree[3], (0, 0, 1, 1))
+        return (left + right + x1 - x0 - 1, up + down + y1 - y0 - 1)
+    return (left + right, up + down)
+
+
+def pixels_of(rects, blocks):
     """The table from the places of all rects to the pixels of their blocks."""
     return {
         (rect[0] + i, rect[1] + j): pixel

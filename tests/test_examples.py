@@ -2,7 +2,7 @@
 
 import unittest
 
-from easelwork.errors import BadText, BadValue, EndlessRegion
+from easelwork.errors import BadLine, BadText, BadValue, EndlessRegion
 
 
 class StageOneTest(unittest.TestCase):
@@ -173,6 +173,104 @@ class StageFourTest(unittest.TestCase):
     def test_strokes(self):
         from easelwork.strokes import dab_places
         self.assertEqual(dab_places(((0, 0), (3, 1), (3, -2)), 2), ((0, 0), (2, 1), (3, 0), (3, -2)))
+
+
+class StageFiveTest(unittest.TestCase):
+    def test_history(self):
+        from easelwork.documents import Document
+        from easelwork.history import History
+        from easelwork.layers import layer
+        history = History(Document(1, 1, layer(0, "group", layer(1, "solid"))))
+        first = history.act(("set", 1, "opacity", 200))
+        second = history.act(("set", 1, "opacity", 100), pen=7)
+        third = history.act(("set", 1, "opacity", 50), pen=7)
+        self.assertEqual((first, second, third), (1, 2, 3))
+        self.assertEqual(
+            (history.undo(), history.undo(), history.redo(), history.redo(), history.go(2), history.undo()),
+            (1, 0, 1, 3, 2, 1))
+
+    def test_stamps(self):
+        from easelwork.documents import Document
+        from easelwork.history import History
+        from easelwork.layers import layer
+        from easelwork.stamps import stamp
+        history = History(Document(4, 4, layer(0, "group", layer(1, "paint"))))
+        state = history.act(("put", 1, ((1, 0, (5, 5, 5, 5)),)))
+        self.assertEqual((stamp(history, state, 1, 0, 2, 0, 0), stamp(history, state, 1, 0, 2, 1, 0)), (1, 0))
+
+    def test_kept(self):
+        from easelwork.documents import Document
+        from easelwork.history import History
+        from easelwork.kept import Kept
+        from easelwork.layers import layer
+        history = History(Document(4, 4, layer(0, "group", layer(1, "paint"))))
+        kept = Kept(2)
+        first = kept.ask(history, 0, 0, 0, 0, 0)
+        count = kept.painted
+        state = history.act(("put", 1, ((1, 0, (5, 5, 5, 5)),)))
+        second = kept.ask(history, state, 0, 0, 0, 0)
+        again = kept.ask(history, 0, 0, 0, 0, 0)
+        self.assertEqual((second[0], again == first, count, kept.painted, len(kept)),
+                         (((0, 0, 0, 0), (5, 5, 5, 5)), True, 8, 10, 4))
+
+    def test_views(self):
+        from easelwork.views import source, view_level
+        view = (4, 4, 1, 3, -2, 0)
+        self.assertEqual((view_level(8, 8, view), source(view, 1, 0, 1)), (1, (-3, 1)))
+
+    def test_windows(self):
+        from easelwork.documents import Document
+        from easelwork.history import History
+        from easelwork.kept import Kept
+        from easelwork.layers import layer
+        from easelwork.windows import Window
+        history = History(Document(2, 1, layer(0, "group", layer(1, "paint"))))
+        window = Window(history, Kept(2), (3, 1, 1, 1, 0, 0))
+        history.act(("put", 1, ((1, 0, (5, 5, 5, 5)),)))
+        self.assertEqual((window.refresh().rects(), window.scroll(1, 0).rects(), window.image),
+                         (((1, 0, 2, 1),), ((2, 0, 3, 1),),
+                          (((5, 5, 5, 5), (96, 96, 96, 255), (96, 96, 96, 255)),)))
+
+
+class StageSixTest(unittest.TestCase):
+    def test_journal(self):
+        from easelwork.journal import bodies
+        self.assertEqual(bodies('("act",("set",1,"opacity",128),0)', 1, 2, 9, 40),
+                         ('1,2,9,0,("act",("set",1,"opacity",128)', '1,2,10,1,,0)'))
+
+    def test_commands(self):
+        from easelwork.commands import parse
+        self.assertEqual(
+            parse("repeat 2 i {paint 1 round 3 2 #ff000080 $i,-1;drop 4}"),
+            ("repeat", 2, "i",
+             (("paint", 1, "round", 3, 2, (255, 0, 0, 128), ((("$", "i"), -1),)), ("drop", 4))))
+        with self.assertRaises(BadLine) as caught:
+            parse("shift 3  -0 x")
+        self.assertEqual(caught.exception.column, 10)
+
+    def test_exports(self):
+        from easelwork.exports import write_block
+        self.assertEqual(write_block((((255, 0, 0, 255), (255, 0, 0, 255), (0, 0, 0, 0)),)),
+                         "3 1\n2*ff0000ff 1*00000000")
+
+    def test_desk(self):
+        from easelwork.desk import Desk
+        from easelwork.documents import Document
+        from easelwork.layers import layer
+        desk = Desk(Document(2, 1, layer(0, "group", layer(1, "paint"))))
+        state = desk.line("{ paint 1 square 1 1 #ff0000ff 0,0 ; paint 1 square 1 1 #0000ffff 1,0 }")
+        self.assertEqual((state, desk.line("set 1 opacity 128"), desk.line("undo"), desk.blame(1, 0)), (1, 2, 1, 1))
+
+    def test_desk_with_a_file(self):
+        from easelwork.desk import Desk
+        from easelwork.disk import Disk
+        from easelwork.documents import Document
+        from easelwork.layers import layer
+        disk = Disk(20, 64)
+        desk = Desk(Document(2, 1, layer(0, "group", layer(1, "paint"))))
+        desk.found(disk, 4)
+        desk.line("set 1 opacity 128")
+        self.assertEqual((desk.note(), Desk.reopened(disk).history.now), (True, 1))
 
 
 if __name__ == "__main__":

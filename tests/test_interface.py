@@ -37,6 +37,20 @@ FUNCTIONS = {
     "fills": ("flood(block, x, y, tolerance)", "alike(block, x, y, tolerance)"),
     "edits": ("fresh(document)", "baked(document, number)", "wrapped(document, number)",
               "unwrapped(document, number)", "turned_deed(document, number, seven)"),
+    "stamps": ("dirty(history, state, number)", "tile_rect(document, number, level, side, i, j)",
+               "stamp(history, state, number, level, side, i, j)"),
+    "views": ("check_view(view)", "view_level(wide, high, view)", "source(view, level, a, b)",
+              "shown(document, view)"),
+    "chunks": ("chunks(history)", "from_chunks(table)"),
+    "store": ("header(disk)", "directory(disk)", "stored(disk)", "uses(disk)", "plan_save(disk, table)"),
+    "journal": ("bodies(record, generation, session, position, width)", "record_texts(disk)"),
+    "files": ("read_disk(disk)", "format_disk(disk, history, log)"),
+    "commands": ("parse(line)",),
+    "printing": ("printed(command)",),
+    "running": ("worked(document, command, names, scripts)",),
+    "blame": ("blame(history, x, y)",),
+    "exports": ("write_block(block)", "header_line(wide, high)", "row_line(row)", "read_block(text)",
+                "road_lines(history, state)"),
 }
 CLASSES = {
     ("regions", "Region"): (
@@ -53,6 +67,25 @@ CLASSES = {
     ),
     ("matrices", "Matrix"): ("parts()", "point(x, y)", "inverse()"),
     ("documents", "Document"): ("layer(number)", "numbers()", "holder(number)", "pack()"),
+    ("history", "History"): (
+        "act(deed, *, pen=0)", "undo()", "redo()", "go(target)", "mark(word)", "unmark(word)", "names()",
+        "perform(entry)", "document_at(state)", "plain(state)", "road(state)", "children(state)", "following(state)",
+        "way(a, b)", "pack()", "rebuilt(pack)",
+    ),
+    ("kept", "Kept"): ("ask(history, state, number, level, i, j)", "throw_out(count)", "change_room(room)"),
+    ("windows", "Window"): ("refresh()", "scroll(dx, dy)", "turn_to(view)"),
+    ("files", "File"): ("attach(disk)", "note(history, entries)", "save(history)"),
+    ("desk", "Desk"): (
+        "line(text)", "undo()", "redo()", "go(target)", "mark(word)", "unmark(word)", "window(view)", "window_at(n)",
+        "shut(n)", "refresh_all()", "ask(number, level, i, j)", "blame(x, y)", "found(disk, log)", "note()", "save()",
+        "reopened(disk, *, side=8, room=40)",
+    ),
+}
+PROPERTIES = {
+    ("history", "History"): ("document",),
+    ("kept", "Kept"): ("room", "painted"),
+    ("windows", "Window"): ("image",),
+    ("desk", "Desk"): ("document",),
 }
 BUILT = {
     ("coverage", "Coverage"): "(spots)",
@@ -60,6 +93,10 @@ BUILT = {
     ("tones", "Curve"): "(points)",
     ("matrices", "Matrix"): "(a, b, c, d, e, f, n)",
     ("documents", "Document"): "(wide, high, root, *, chosen=None)",
+    ("history", "History"): "(document)",
+    ("kept", "Kept"): "(side, *, room=40)",
+    ("windows", "Window"): "(history, kept, view)",
+    ("desk", "Desk"): "(document, *, side=8, room=40)",
 }
 OPERATORS = {
     ("regions", "Region"): ("__or__", "__and__", "__sub__", "__eq__", "__contains__", "__bool__"),
@@ -67,6 +104,8 @@ OPERATORS = {
     ("tones", "Curve"): ("__eq__",),
     ("matrices", "Matrix"): ("__mul__", "__eq__"),
     ("documents", "Document"): ("__eq__",),
+    ("history", "History"): ("__len__", "__iter__"),
+    ("kept", "Kept"): ("__len__", "__iter__"),
 }
 
 
@@ -98,6 +137,11 @@ class InterfaceTest(unittest.TestCase):
                 self.assertEqual(held, call)
             for method in OPERATORS.get((name, word), ()):
                 self.assertIn(method, vars(kind))
+
+    def test_properties_stand_in_the_class_itself(self):
+        for (name, word), held in PROPERTIES.items():
+            for method in held:
+                self.assertIsInstance(vars(getattr(module(name), word))[method], property)
 
     def test_how_objects_are_made(self):
         for (name, word), arguments in BUILT.items():

@@ -11,7 +11,7 @@ PACKAGE = Path(__file__).resolve().parent.parent / "easelwork"
 LIBRARY = {"math": {"gcd", "lcm", "isqrt", "comb", "perm", "factorial"}, "heapq": {"heappush", "heappop"}}
 CALLED_BUILTINS = set(
     "len range enumerate zip min max sum abs sorted reversed int str bool list tuple dict set isinstance ord repr"
-    " any all divmod ValueError".split())
+    " any all divmod iter ValueError".split())
 METHODS = set(
     "append clear copy count endswith extend find get index insert isalnum isalpha isdigit islower isspace isupper"
     " items join keys ljust lower lstrip partition pop remove replace reverse rfind rjust rpartition rsplit rstrip"
@@ -187,8 +187,9 @@ class SyntaxTest(unittest.TestCase):
 
     def test_decorators_and_double_underscores(self):
         for name, node in nodes(ast.FunctionDef):
-            words = [part.id for part in node.decorator_list]
-            self.assertIn(words, ([], ["classmethod"], ["staticmethod"], ["property"]), (name, node.name))
+            words = [ast.unparse(part) for part in node.decorator_list]
+            allowed = ([], ["classmethod"], ["staticmethod"], ["property"], [node.name + ".setter"])
+            self.assertIn(words, allowed, (name, node.name))
             if node.name.startswith("__"):
                 self.assertIn(node.name, DUNDERS, name)
         for name, node in nodes(ast.ClassDef):
@@ -258,8 +259,11 @@ class NameTest(unittest.TestCase):
         methods, attributes = set(), set()
         for _, node in nodes(ast.ClassDef):
             methods |= {part.name for part in node.body if isinstance(part, ast.FunctionDef)}
+        # A property that has a setter may be assigned.
+        settable = {node.name for _, node in nodes(ast.FunctionDef)
+                    if [ast.unparse(part) for part in node.decorator_list] == [node.name + ".setter"]}
         for _, node in nodes(ast.Attribute):
-            if isinstance(node.ctx, ast.Store):
+            if isinstance(node.ctx, ast.Store) and node.attr not in settable:
                 attributes.add(node.attr)
         plain = {word for word in methods if not word.startswith("__")}
         self.assertEqual(methods & attributes, set())
