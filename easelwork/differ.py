@@ -91,11 +91,25 @@ def _with_spans(region, children):
 
 def _unlike(olds, news):
     """The region of the places at which two tuples of (x, y, thing) hold unlike things, or only one holds any."""
-    first = {(x, y): thing for x, y, thing in olds}
-    second = {(x, y): thing for x, y, thing in news}
+    same = _shared(olds, news)
+    olds = olds[same:][::-1]
+    news = news[same:][::-1]
+    same = _shared(olds, news)
+    first = {(x, y): thing for x, y, thing in olds[same:]}
+    second = {(x, y): thing for x, y, thing in news[same:]}
     places = [place for place in first if place not in second]
     places.extend([place for place in second if place not in first or first[place] != second[place]])
     return Region.of([(x, y, x + 1, y + 1) for x, y in places])
+
+
+def _shared(olds, news):
+    """How many items the two begin with in common; mostly only a few are not."""
+    count = 0
+    for old, new in zip(olds, news):
+        if old != new:
+            break
+        count += 1
+    return count
 
 
 def _stack_differ(old, new):
@@ -117,7 +131,8 @@ def _pair_region(e, f, region):
     if not is_effect(e):
         if e[2][0] != f[2][0]:
             return region | span(e) | span(f)
-        return region | (differ(e, f) & masks) | (masked & (box(e) | box(f)))
+        region = region | (differ(e, f) & masks)
+        return region | (masked & (box(e) | box(f))) if masked else region
     if e[1] == "pass":
         return region | (between(e[4], f[4], region) & masks) | masked
     if e[3] == f[3]:

@@ -11,6 +11,7 @@ from easelwork.modes import blend, kept
 from easelwork.needs import all_margins, margins
 from easelwork.pixels import CLEAR, capped, mixed, scale
 from easelwork.rects import cut, widened
+from easelwork.rows import row_of
 from easelwork.tones import Curve, adjusted
 
 
@@ -64,8 +65,9 @@ def _shares(child, rects):
     opacity, mask = child[2][1:3]
     if mask is None:
         return [[[opacity] * (x1 - x0)] * (y1 - y0) for x0, y0, x1, y1 in rects]
-    values = {(x, y): mul(opacity, k) for x, y, k in mask}
-    return [[[values.get((x, y), 0) for x in range(x0, x1)] for y in range(y0, y1)] for x0, y0, x1, y1 in rects]
+    return [
+        [[mul(opacity, k) for k in row_of(mask, y, x0, x1, 0)] for y in range(y0, y1)] for x0, y0, x1, y1 in rects
+    ]
 
 
 def _laid(mode, keeps, parts):

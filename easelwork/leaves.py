@@ -3,6 +3,7 @@
 from easelwork.outlines import chords, covered_rows, sample_alpha
 from easelwork.pixels import CLEAR, ink, scale
 from easelwork.ramps import ramp_pixel
+from easelwork.rows import row_of
 from easelwork.texts import text_polygons
 
 
@@ -11,8 +12,7 @@ def leaf_blocks(tree, rects):
     kind = tree[1]
     body = tree[3]
     if kind == "paint":
-        pixels = {(x, y): pixel for x, y, pixel in body[0]}
-        return [_paint_block(pixels, rect) for rect in rects]
+        return [_paint_block(body[0], rect) for rect in rects]
     if kind == "ramp":
         return [_ramp_block(body, rect) for rect in rects]
     if kind == "solid":
@@ -40,9 +40,9 @@ def _rule(tree):
     return tree[3][1] if tree[1] == "shape" else "wind"
 
 
-def _paint_block(pixels, rect):
+def _paint_block(spots, rect):
     x0, y0, x1, y1 = rect
-    return tuple([tuple([pixels.get((x, y), CLEAR) for x in range(x0, x1)]) for y in range(y0, y1)])
+    return tuple([tuple(row_of(spots, y, x0, x1, CLEAR)) for y in range(y0, y1)])
 
 
 def _ramp_block(body, rect):

@@ -32,7 +32,11 @@ def around(rects):
 
 def around_places(places):
     """The smallest rect that holds all the places, or None without places."""
-    return around([(place[0], place[1], place[0] + 1, place[1] + 1) for place in places])
+    if not places:
+        return None
+    across = [place[0] for place in places]
+    down = [place[1] for place in places]
+    return (min(across), min(down), max(across) + 1, max(down) + 1)
 
 
 def holds(rect, x, y):
