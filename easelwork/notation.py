@@ -5,6 +5,7 @@ from easelwork.signs import may_stand
 
 MOST_DIGITS = 30
 MOST_DEPTH = 40
+DIGITS = "0123456789"
 WORDS = (("true", True), ("false", False), ("none", None))
 
 
@@ -46,14 +47,9 @@ def _value_at(text, at, depth):
         return _tuple_at(text, at, depth)
     if sign == '"':
         return _string_at(text, at)
-    if sign == "-" or _is_digit(sign):
+    if "0" <= sign <= "9" or sign == "-":
         return _integer_at(text, at)
     return _word_at(text, at)
-
-
-def _is_digit(sign):
-    """True for one digit; the sign is a single one, or nothing at the end of the text."""
-    return "0" <= sign <= "9"
 
 
 def _tuple_at(text, at, depth):
@@ -65,9 +61,10 @@ def _tuple_at(text, at, depth):
     while len(items) > 1 or text[end:end + 1] != ")":
         item, end = _value_at(text, end, depth + 1)
         items.append(item)
-        if len(items) > 1 and text[end:end + 1] == ")":
+        sign = text[end:end + 1]
+        if len(items) > 1 and sign == ")":
             break
-        if text[end:end + 1] != ",":
+        if sign != ",":
             raise BadText(end)
         end += 1
     return tuple(items), end + 1
@@ -89,19 +86,16 @@ def _string_at(text, at):
 
 
 def _integer_at(text, at):
-    first = at
-    if text[at] == "-":
-        first = at + 1
-    if text[first:first + 1] == "0":
+    first = at + 1 if text[at] == "-" else at
+    signs = text[first:first + MOST_DIGITS]
+    many = len(signs) - len(signs.lstrip(DIGITS))
+    if many == 0:
+        raise BadText(first)
+    if signs[0] == "0":
         if first > at:
             raise BadText(first)
         return 0, first + 1
-    end = first
-    while end - first < MOST_DIGITS and _is_digit(text[end:end + 1]):
-        end += 1
-    if end == first:
-        raise BadText(end)
-    return int(text[at:end]), end
+    return int(text[at:first + many]), first + many
 
 
 def _word_at(text, at):
