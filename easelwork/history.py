@@ -82,10 +82,10 @@ class History:
             if target not in self._names:
                 raise NoName(target)
             state = self._names[target]
-        down = [step for step in self.road(state) if step not in self.road(self.now)]
-        while self.now not in self.road(state):
+        down = self.road(state)
+        while self.now not in down:
             self._step_up()
-        for step in down:
+        for step in down[down.index(self.now) + 1:]:
             self._step_down(step)
         return self.now
 

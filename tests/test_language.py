@@ -16,6 +16,8 @@ METHODS = set(
     "append clear copy count endswith extend find get index insert isalnum isalpha isdigit islower isspace isupper"
     " items join keys ljust lower lstrip partition pop remove replace reverse rfind rjust rpartition rsplit rstrip"
     " setdefault split splitlines startswith strip update upper values zfill bit_length".split())
+# Python's own tools give the underscore a value at times.
+BUILTINS = set(dir(builtins)) - {"_"}
 BUILTIN_VALUES = ("", 0, [], {}, set(), b"")
 DUNDERS = set(
     "__init__ __eq__ __repr__ __str__ __len__ __call__ __iter__ __add__ __sub__ __mul__ __and__ __or__ __bool__"
@@ -24,6 +26,10 @@ BARRED_NAMES = set("register mro elements open input law version_info with_trace
 BARRED_WORDS = set(
     "type typing typing_extensions enum Enum IntEnum StrEnum Flag IntFlag Generic Protocol ABC ABCMeta namedtuple"
     " NamedTuple TypedDict TYPE_CHECKING abstractmethod".split())
+# Attributes may have these names, everything else may not.
+BARRED_BUT_FOR_ATTRIBUTES = set(
+    "attrgetter breakpoint builtins compile copyright credits delattr dir eval exec exit gc getattr globals hasattr help"
+    " id importlib license locals methodcaller os quit setattr super type vars sys".split())
 STATEMENTS = (
     ast.Assign, ast.AugAssign, ast.If, ast.While, ast.For, ast.Return, ast.Break, ast.Continue, ast.Pass, ast.Raise,
     ast.Assert, ast.Delete, ast.Try, ast.Expr, ast.FunctionDef, ast.ClassDef, ast.ImportFrom,
@@ -74,7 +80,7 @@ class FilesTest(unittest.TestCase):
             if path.name != "__pycache__":
                 self.assertTrue(path.is_file() and path.suffix == ".py", path)
                 self.assertRegex(path.stem, r"^([a-z][a-z0-9_]*|__init__)$")
-                self.assertNotIn(path.stem, dir(builtins))
+                self.assertNotIn(path.stem, BUILTINS)
 
     def test_the_package_itself_holds_a_docstring_alone(self):
         tree = tree_of(PACKAGE / "__init__.py")
@@ -150,11 +156,40 @@ class ModuleTest(unittest.TestCase):
             tree = tree_of(path)
             taken = {part.name for node in tree.body if isinstance(node, ast.ImportFrom) for part in node.names}
             taken |= {node.name for node in tree.body if isinstance(node, ast.ClassDef)}
-            taken |= set(dir(builtins))
+            taken |= BUILTINS
             for node in ast.walk(tree):
                 if isinstance(node, ast.FunctionDef):
                     self.assertEqual(taken & set(inner_names(node)), set(), (path.name, node.name))
-            self.assertEqual(set(defined(tree)) & set(dir(builtins)), set())
+            self.assertEqual(set(defined(tree)) & BUILTINS, set())
+
+
+    def test_tables_are_only_read(self):
+        tables = set()
+        for path in files():
+            for statement in tree_of(path).body:
+                if isinstance(statement, ast.Assign) and isinstance(statement.value, (ast.Dict, ast.List)):
+                    tables.add((path.stem, statement.targets[0].id))
+                    inner = [part for part in ast.walk(statement.value) if part is not statement.value]
+                    self.assertFalse([part for part in inner if isinstance(part, (ast.Dict, ast.List))], path.name)
+        self.assertIn(("forms", "FORMS"), tables)
+        for path in files():
+            tree = tree_of(path)
+            seen = {word for stem, word in tables if stem == path.stem}
+            for node in tree.body:
+                if isinstance(node, ast.ImportFrom):
+                    stem = node.module.partition(".")[2]
+                    seen |= {part.name for part in node.names if (stem, part.name) in tables}
+            read = set()
+            for node in ast.walk(tree):
+                if isinstance(node, ast.Subscript) and isinstance(node.ctx, ast.Load):
+                    read.add(node.value)
+                if isinstance(node, ast.Compare):
+                    read.update(node.comparators)
+                if isinstance(node, ast.Call) and isinstance(node.func, ast.Attribute) and node.func.attr == "get":
+                    read.add(node.func.value)
+            for node in ast.walk(tree):
+                if isinstance(node, ast.Name) and node.id in seen and isinstance(node.ctx, ast.Load):
+                    self.assertIn(node, read, (path.name, node.lineno, node.id))
 
 
 class SyntaxTest(unittest.TestCase):
@@ -237,6 +272,10 @@ class NameTest(unittest.TestCase):
             names |= {node.arg for node in ast.walk(tree) if isinstance(node, (ast.arg, ast.keyword))}
             names |= {node.name for node in ast.walk(tree) if isinstance(node, (ast.FunctionDef, ast.ClassDef))}
             self.assertEqual(names & (BARRED_NAMES | BARRED_WORDS), set(), path.name)
+            named = {node.id for node in ast.walk(tree) if isinstance(node, ast.Name)}
+            named |= {node.arg for node in ast.walk(tree) if isinstance(node, ast.arg)}
+            named |= {node.name for node in ast.walk(tree) if isinstance(node, (ast.FunctionDef, ast.ClassDef))}
+            self.assertEqual(named & BARRED_BUT_FOR_ATTRIBUTES, set(), path.name)
             for word in names:
                 self.assertNotRegex(word or "", r"^_(wall|pe_|dcw_|enum_|cm_|twin_re_|lay_|law_|stub_|sre)")
 
@@ -244,7 +283,7 @@ class NameTest(unittest.TestCase):
         for path in files():
             tree = tree_of(path)
             for node in ast.walk(tree):
-                if isinstance(node, ast.Name) and hasattr(builtins, node.id):
+                if isinstance(node, ast.Name) and node.id in BUILTINS:
                     allowed = CALLED_BUILTINS | {"classmethod", "staticmethod", "property"}
                     self.assertIn(node.id, allowed, (path.name, node.lineno))
 
@@ -268,6 +307,66 @@ class NameTest(unittest.TestCase):
         plain = {word for word in methods if not word.startswith("__")}
         self.assertEqual(methods & attributes, set())
         self.assertEqual((plain | attributes) & taken, set())
+
+    def test_properties_class_methods_and_plain_methods_have_different_names(self):
+        held = {"property": set(), "classmethod": set(), "staticmethod": set(), "plain": set()}
+        attributes = {node.attr for _, node in nodes(ast.Attribute) if isinstance(node.ctx, ast.Store)}
+        settable = set()
+        for _, node in nodes(ast.ClassDef):
+            for part in node.body:
+                if isinstance(part, ast.FunctionDef):
+                    words = [ast.unparse(word) for word in part.decorator_list]
+                    if words == [part.name + ".setter"]:
+                        settable.add(part.name)
+                    else:
+                        held[words[0] if words else "plain"].add(part.name)
+        kinds = list(held)
+        for at, kind in enumerate(kinds):
+            for other in kinds[at + 1:]:
+                self.assertEqual(held[kind] & held[other], set())
+        self.assertEqual(held["classmethod"] & attributes | held["staticmethod"] & attributes, set())
+        self.assertEqual(held["property"] & attributes, settable)
+
+    def test_what_a_property_and_the_length_of_an_object_do(self):
+        for name, node in nodes(ast.FunctionDef):
+            words = [ast.unparse(word) for word in node.decorator_list]
+            if words == ["property"] or node.name in ("__len__", "__iter__"):
+                rows = [row for row in node.body if not ast.get_docstring(node) or row is not node.body[0]]
+                self.assertEqual([type(row) for row in rows], [ast.Return], (name, node.name))
+                calls = [part for part in ast.walk(rows[0]) if isinstance(part, ast.Call)]
+                self.assertTrue(words == [] or calls == [], (name, node.name))
+                if node.name == "__len__":
+                    self.assertEqual(calls[0].func.id, "len")
+                if node.name == "__iter__":
+                    self.assertEqual(calls[0].func.id, "iter")
+        for name, node in nodes(ast.Call):
+            if isinstance(node.func, ast.Name) and node.func.id == "iter":
+                self.assertIn(name, ("history.py", "kept.py"))
+
+    def test_stars_in_calls_and_dicts(self):
+        for name, node in nodes(ast.Dict):
+            for key, value in zip(node.keys, node.values):
+                self.assertTrue(key is not None or isinstance(value, ast.Name), (name, node.lineno))
+
+    def test_a_generator_is_iterated_at_once(self):
+        generators = {node.name for _, node in nodes(ast.FunctionDef)
+                      if any(isinstance(part, (ast.Yield, ast.YieldFrom)) for part in ast.walk(node))}
+        self.assertEqual(generators, {"places", "walk"})
+        for path in files():
+            tree = tree_of(path)
+            good = set()
+            for node in ast.walk(tree):
+                if isinstance(node, (ast.For, ast.comprehension)):
+                    good.add(node.iter)
+                if isinstance(node, ast.YieldFrom):
+                    good.add(node.value)
+                if isinstance(node, ast.Call) and isinstance(node.func, ast.Name) and node.func.id in ("list", "tuple"):
+                    good.update(node.args)
+            for node in ast.walk(tree):
+                if isinstance(node, ast.Call):
+                    word = getattr(node.func, "id", getattr(node.func, "attr", None))
+                    if word in generators:
+                        self.assertIn(node, good, (path.name, node.lineno))
 
     def test_a_generator_has_its_name_alone(self):
         every = [node.name for _, node in nodes(ast.FunctionDef)]
