@@ -51,7 +51,8 @@ STRANGE = ("", "0", "-0", "00", "07", "5", "-5", "123456", "1234567", "-1234567"
            "#00000000", "#0000000", "#000000000", "#ABCDEF00", "#0000000g", "square", "round", "paint", "rank", "to",
            "less", "all", "rect", "none", "turned", "grown", "drop", "undo", "script", "block", "{", "}", ";", '"a"',
            '"', '"a', '"a"b', '"a\\"', "()", "(1)", "(1,)", "(1,)2", "(1,) (2,)", "true", "truex", "tru", "+5", "1.5",
-           "-", "5x", "x;", "{}", "drop 1", '"a";', "(1,)}")
+           "-", "5x", "x;", "{}", "drop 1", '"a";', "(1,)}", "z", "a0z9", "a`", "`a", "a/", "a:", "#g0000000", "#0000000X",
+           "$z9", "$a:", "1/2")
 
 
 def column(line):
@@ -86,6 +87,8 @@ class FormsTest(unittest.TestCase):
         self.assertEqual(column("{{{repeat 1 i{drop 1}}}}"), None)
         self.assertEqual(column("{{{{repeat 1 i{drop 1}}}}}"), 15)
         self.assertEqual(column("{{{{drop 1};{drop 2}};{{drop 3}}}}"), None)
+        self.assertEqual(column("{drop 1;{{{drop 2}}}}"), None)
+        self.assertEqual(column("{drop 1;{{{{drop 2}}}}}"), 12)
 
     def test_desk_commands_do_not_stand_in_braces(self):
         for line, _ in GOOD:

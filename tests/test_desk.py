@@ -54,6 +54,12 @@ class LineTest(unittest.TestCase):
                          (History(picture()).pack(), 0, 7, picture()))
         self.assertEqual(made.ask(1, 0, 0, 0), (((0, 0, 0, 0),) * 3,) * 3)
 
+    def test_default_values(self):
+        disk = Disk(80, 64)
+        Desk(picture()).found(disk, 4)
+        for made in (Desk(picture()), Desk.reopened(disk)):
+            self.assertEqual((made.kept.room, len(made.ask(1, 0, 0, 0))), (40, 8))
+
     def test_sides_and_rooms_out_of_range(self):
         for side in (0, 17):
             self.assertEqual(refusal(Desk, picture(), side=side, room=-1), ("BadValue", "side"))
@@ -93,6 +99,8 @@ class LineTest(unittest.TestCase):
         self.assertEqual((made.line("pen 99"), made.pen), (0, 99))
         for value in ("100", "-1", "999999"):
             self.assertEqual((refusal(made.line, "pen " + value), made.pen), (("BadValue", "pen"), 99))
+        made.line("pen 0")
+        self.assertEqual(made.pen, 0)
         made.line("let p 5")
         made.line("pen $p")
         self.assertEqual((made.pen, refusal(made.line, "pen $q")), (5, ("NoName", "q")))

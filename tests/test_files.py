@@ -246,6 +246,28 @@ class SaveTest(unittest.TestCase):
             self.assertEqual((header(disk)[0], header(disk)[1]), (3 + k, 2 + k))
             self.assertEqual(disk.log[-2][1], (3 + k) % 2)
 
+    def test_a_header_that_is_a_little_too_long(self):
+        longer = set()
+        for many in range(20, 34):
+            spots = tuple((8 * (k % 6), 8 * (k // 6), (1, 1, 1, 1)) for k in range(many))
+            history = History(Document(1, 1, layer(0, "group", layer(1, "paint", spots=spots))))
+            disk = Disk(400, 60)
+            if refusal(format_disk, disk, history, 2) is not None:
+                continue
+            file = File.attach(disk)
+            for _ in range(12):
+                _, length, blocks = plan_save(disk, chunks(history))
+                serial, generation, session, log, _, _ = header(disk)
+                body = write_value((serial + 1, generation + 1, session, log, length, blocks))
+                count = len(disk.log)
+                error = refusal(file.save, history)
+                self.assertEqual(error, ("Full",) if len(body) > 58 else None)
+                if error is not None:
+                    self.assertEqual((len(disk.log), read_disk(disk).pack()), (count, history.pack()))
+                    longer.add(len(body) - 58)
+                    break
+        self.assertTrue(longer & {1, 2, 3, 4}, longer)
+
     def test_nothing_but_free_blocks_is_written_before_the_header(self):
         for seed in range(10):
             chance = Random(seed)

@@ -205,6 +205,17 @@ class AskTest(unittest.TestCase):
         self.assertEqual({tile[2:4] for tile in kept if tile[0] == 4}, {(0, 0), (-8, 0), (-7, 0)})
 
 
+    def test_shadows_that_lie_across(self):
+        for dx, dy in ((30, 7), (-29, 7), (31, -6), (-30, -9), (5, 30), (1, -31)):
+            styled = layer(3, "styled", layer(4, "paint"), shadows=((dx, dy, 0, 1, (0, 0, 0, 255)),))
+            history = begun(styled)
+            history.act(put(4, *sorted([(2 - dx, 1 - dy), (1, 1)], key=lambda place: (place[1], place[0]))))
+            for side in (3, 4):
+                for i in (0, 1):
+                    block = Kept(side).ask(history, 1, 3, 0, i, 0)
+                    self.assertEqual(block, slow_tiles.Pixels(history).tile(1, 3, 0, side, i, 0))
+
+
 class CountTest(unittest.TestCase):
     def test_exact_counts_and_names(self):
         for seed in range(60):

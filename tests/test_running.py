@@ -103,6 +103,8 @@ class TableTest(unittest.TestCase):
         document = Document(1, 1, layer(0, "group", layer(1, "text")))
         for line in ('set 1 font (16,(("$",5,()),))', 'set 1 font (16,(("$",5,()),("a",0,())))'):
             self.assertEqual(work(line, document, {"n": 1})[0], (parse(line),))
+        line = 'do ("set",1,"font",(16,(("$",5,()),)))'
+        self.assertEqual(work(line, document, {"n": 1})[0], (("set", 1, "font", (16, (("$", 5, ()),))),))
         self.assertEqual(error('do ("$","n")', None, {"n": 1}), ("BadValue", "deed"))
 
 
@@ -124,6 +126,11 @@ class SelectTest(unittest.TestCase):
         self.assertEqual(self.chosen("select to alike 3,2 1", document), alike(block, 3, 2, 1).spots)
         self.assertEqual(self.chosen("select to layer 1", document), ((0, 0, 9), (1, 0, 9), (3, 2, 8)))
         self.assertEqual(self.chosen("select to layer 4", document), every)
+
+    def test_floods_and_all_that_is_alike(self):
+        document = Document(3, 1, layer(0, "group", layer(1, "paint", spots=((1, 0, (9, 9, 9, 9)),))))
+        self.assertEqual(self.chosen("select to flood 0,0 0", document), ((0, 0, 255),))
+        self.assertEqual(self.chosen("select to alike 0,0 0", document), ((0, 0, 255), (2, 0, 255)))
 
     def test_layers_are_cut_to_the_canvas_and_their_heads_play_no_part(self):
         spots = ((-1, 0, (1, 1, 1, 1)), (0, 0, (2, 2, 2, 2)), (4, 0, (3, 3, 3, 3)))
@@ -169,7 +176,9 @@ class AdjustTest(unittest.TestCase):
         for chosen in (spots, None, ()):
             document = canvas(chosen)
             cover = Coverage.of_rect(rect, 255) if chosen is None else Coverage(chosen)
-            made = {"turned": cover.turned(rect), "hardened 60": cover.hardened(60)}
+            made = {"turned": cover.turned(rect)}
+            for least in (1, 60, 255):
+                made[f"hardened {least}"] = cover.hardened(least)
             for r in (0, 1, 2, 8):
                 made[f"grown {r}"] = cover.grown(r, rect)
                 made[f"shrunk {r}"] = cover.shrunk(r, rect)
