@@ -1,11 +1,11 @@
 """Exports: blocks of pixels as texts, and roads of states as lines."""
 
 from easelwork.errors import BadText
+from easelwork.hexes import hex_parts, hex_text
 from easelwork.notation import write_value
 from easelwork.pixels import is_pixel
 
 MOST_SIDE = 1000
-HEX = "0123456789abcdef"
 
 
 def write_block(block):
@@ -28,7 +28,7 @@ def row_line(row):
             runs[-1] = (runs[-1][0] + 1, pixel)
         else:
             runs.append((1, pixel))
-    return " ".join([f"{many}*{_pixel_text(pixel)}" for many, pixel in runs])
+    return " ".join([f"{many}*{hex_text(pixel)}" for many, pixel in runs])
 
 
 def read_block(text):
@@ -56,10 +56,6 @@ def road_lines(history, state):
     return tuple(["do " + write_value(deed) for number, _, deed, _, _ in history if number in road and number > 0])
 
 
-def _pixel_text(pixel):
-    return "".join([f"{part:02x}" for part in pixel])
-
-
 def _sizes(line):
     """The pair of the counts of the first line, or () if it is not right."""
     if line == header_line(0, 0):
@@ -80,10 +76,9 @@ def _row(line, wide):
     row = []
     for run in line.split(" "):
         many, _, digits = run.partition("*")
-        if not _is_count(many) or len(digits) != 8 or not all([sign in HEX for sign in digits]):
-            return ()
-        pixel = tuple([int(digits[k:k + 2], 16) for k in range(0, 8, 2)])
-        if not is_pixel(pixel) or len(row) + int(many) > wide:
+        pixel = hex_parts(digits)
+        # What is no eight digits is no pixel either.
+        if not _is_count(many) or not is_pixel(pixel) or len(row) + int(many) > wide:
             return ()
         row.extend([pixel] * int(many))
     # A line that splits a run of equal pixels in two is another one than that of the row.

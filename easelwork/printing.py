@@ -1,6 +1,7 @@
 """The lines of commands."""
 
 from easelwork.forms import form_of, group_of
+from easelwork.hexes import hex_text
 from easelwork.notation import write_value
 
 
@@ -58,7 +59,7 @@ def _nums_tokens(value):
 
 
 def _color_tokens(value):
-    return ["#" + "".join([f"{part:02x}" for part in value])]
+    return ["#" + hex_text(value)]
 
 
 def _value_tokens(value):

@@ -4,6 +4,7 @@ A function of a token returns the tuple of the value alone, or () if the token d
 """
 
 from easelwork.errors import BadText
+from easelwork.hexes import hex_parts
 from easelwork.layers import KINDS
 from easelwork.notation import read_prefix, read_value
 
@@ -11,7 +12,6 @@ MOST_DIGITS = 6
 MOST_NAME = 16
 SIGNS_ALONE = ("{", "}", ";")
 BEHIND_VALUES = ("", " ", "{", "}", ";")
-HEX = "0123456789abcdef"
 BRUSHES = ("square", "round")
 HOWS = ("to", "more", "only", "less")
 
@@ -63,9 +63,8 @@ def place_of(token):
 
 def color_of(token):
     """A color in eight digits."""
-    if len(token) != 9 or token[0] != "#" or not all([sign in HEX for sign in token[1:]]):
-        return ()
-    return (tuple([int(token[k:k + 2], 16) for k in range(1, 9, 2)]),)
+    color = hex_parts(token[1:]) if token[:1] == "#" else ()
+    return (color,) if color else ()
 
 
 def text_of(token):
