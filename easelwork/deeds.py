@@ -1,7 +1,7 @@
 """Deeds: the changes of a document, each with the deed that takes it back."""
 
 from easelwork.documents import check_chosen, check_size, trusted
-from easelwork.errors import BadPlace, BadValue, NoChange, NoLayer, Taken, TooLarge
+from easelwork.errors import BadPlace, BadValue, NoChange, Taken, TooLarge
 from easelwork.layers import HOLDERS, field, walk, with_field
 from easelwork.pixels import CLEAR, is_pixel
 from easelwork.ranges import MOST_SPOTS, are_spread, check_fields

@@ -4,7 +4,6 @@ from easelwork.boxes import box, mask_region, span
 from easelwork.layers import is_active, is_effect
 from easelwork.needs import reach
 from easelwork.regions import Region
-from easelwork.taps import back
 
 
 def pairs(olds, news):

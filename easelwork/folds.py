@@ -8,7 +8,7 @@ from easelwork.arith import mul
 from easelwork.kernels import blurred, convolved, ranked
 from easelwork.layers import is_active, is_effect
 from easelwork.modes import blend, kept
-from easelwork.needs import all_margins, margins
+from easelwork.needs import all_margins
 from easelwork.pixels import CLEAR, capped, mixed, scale
 from easelwork.rects import cut, widened
 from easelwork.rows import row_of

@@ -132,6 +132,13 @@ class ModuleTest(unittest.TestCase):
                 self.assertEqual(package, "easelwork")
                 self.assertLessEqual(set(words), set(defined(tree_of(PACKAGE / (file + ".py")))))
 
+    def test_what_is_imported_is_used(self):
+        for path in files():
+            tree = tree_of(path)
+            used = {node.id for node in ast.walk(tree) if isinstance(node, ast.Name)}
+            imported = {part.name for node in tree.body if isinstance(node, ast.ImportFrom) for part in node.names}
+            self.assertEqual(imported - used, set(), path.name)
+
     def test_no_two_files_import_from_each_other(self):
         below = {}
         for name, node in nodes(ast.ImportFrom):
